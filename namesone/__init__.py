@@ -1,0 +1,1 @@
+"""Namesone: names that are one, and trees that keep them."""
