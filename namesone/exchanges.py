@@ -29,10 +29,11 @@ def _with_one_fold_back(folds, text):
 
 
 def _with_one_swap(marks, text):
-    return [_swapped(text, at) for at in range(len(text) - 1) if _may_swap(marks, text[at], text[at + 1])]
+    return [_swapped(text, at) for at in range(len(text) - 1) if may_swap(marks, text[at], text[at + 1])]
 
 
-def _may_swap(marks, left, right):
+def may_swap(marks, left, right):
+    """Whether two neighbouring signs are marks that may change places."""
     return left in marks and right in marks and marks[left] != marks[right]
 
 
@@ -67,6 +68,6 @@ def _nearer_to_key(folds, marks, text):
             return _put(text, at, 1, folds[sign])
     for at in range(len(text) - 1):
         # Only a falling pair is swapped, so that marks of one class never pass each other.
-        if _may_swap(marks, text[at], text[at + 1]) and marks[text[at]] > marks[text[at + 1]]:
+        if may_swap(marks, text[at], text[at + 1]) and marks[text[at]] > marks[text[at + 1]]:
             return _swapped(text, at)
     return None

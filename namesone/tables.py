@@ -38,9 +38,19 @@ def _is_fold_word(thing):
     return _is_word_up_to(thing, LONGEST_FOLD)
 
 
+def is_number(thing):
+    """Whether any value is an integer."""
+    # True is an int for Python, and it equals 1.
+    return isinstance(thing, int) and not isinstance(thing, bool)
+
+
+def in_order(words):
+    """A new list of words in the order of [4]."""
+    return sorted(words, key=lambda word: (len(word), word))
+
+
 def _is_mark_class(thing):
-    # True equals 1, but it is not a class.
-    return isinstance(thing, int) and not isinstance(thing, bool) and thing in MARK_CLASSES
+    return is_number(thing) and thing in MARK_CLASSES
 
 
 def _check_folds(folds):
@@ -87,6 +97,12 @@ def _with_marks_in_order(marks, text):
 def _run_in_order(marks, run):
     # Going through the run once for each class keeps the order within a class.
     return "".join([mark for level in MARK_CLASSES for mark in run if marks[mark] == level])
+
+
+def key_of(table, word):
+    """The key of what is known to be a word."""
+    # The operator `in` of a tree needs keys, and an operator calls no object.
+    return _with_marks_in_order(table.marks, _with_folds(table.folds, word))
 
 
 def _items_of(text):
@@ -151,7 +167,7 @@ class Table:
         """The key of a word."""
         if not is_word(word):
             raise NoWord(word)
-        return _with_marks_in_order(self._marks, _with_folds(self._folds, word))
+        return key_of(self, word)
 
     def __eq__(self, other):
         return isinstance(other, Table) and self._folds == other._folds and self._marks == other._marks

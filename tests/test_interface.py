@@ -3,11 +3,26 @@
 import inspect
 import unittest
 
-from namesone import errors, exchanges, tables
+from namesone import errors, exchanges, papers, relations, spellings, tables, trees
+from tests.values import document_table, low_table, plain_table
 
 FUNCTIONS = {
     tables: {"is_sign": ["thing"], "is_word": ["thing"], "is_name": ["thing"]},
     exchanges: {"exchanges": ["table", "word"], "find_way": ["table", "one", "other"]},
+    papers: {"paper": ["table", "one", "other"], "holds": ["table", "one", "other", "thing"]},
+    spellings: {
+        "count": ["table", "name", "size"], "spellings": ["table", "name", "most"], "shortest": ["table", "name"],
+        "groups": ["table", "names"], "bar": ["table", "names"]},
+    relations: {
+        "is_finer": ["one", "other"], "are_alike": ["one", "other"], "failing": ["one", "other"],
+        "parting": ["one", "other"]},
+    trees: {"is_path": ["thing"]},
+}
+TREE_METHODS = {
+    "folder": ["path", "table"], "file": ["path", "content"], "link": ["path", "target"], "write": ["path", "content"],
+    "remove": ["path"], "move": ["path", "other"], "change": ["path", "table"], "kind": ["path"], "real_path": ["path"],
+    "target": ["path"], "read": ["path"], "end": ["path"], "table_of": ["path"], "batch": ["deeds"], "lay": ["archive"],
+    "walk": [], "names": ["path"], "copy": [], "same": ["other"],
 }
 
 
@@ -41,6 +56,61 @@ class InterfaceTest(unittest.TestCase):
         self.assertTrue(tables.is_sign(thing="a"))
         self.assertTrue(tables.is_word(thing="a"))
         self.assertTrue(tables.is_name(thing="a"))
+
+    def test_tree_stands_in_its_file(self):
+        self.assertEqual(trees.Tree.__module__, "namesone.trees")
+        self.assertEqual(list(inspect.signature(trees.Tree).parameters), ["table"])
+
+    def test_methods_of_trees_stand_in_the_class_itself(self):
+        own = vars(trees.Tree)
+        for name, parameters in TREE_METHODS.items():
+            self.assertEqual(list(inspect.signature(own[name]).parameters), ["self", *parameters], name)
+        for name in ("__init__", "__len__", "__contains__", "__repr__"):
+            self.assertIn(name, own)
+
+    def test_what_is_passed_by_name_only(self):
+        tree = trees.Tree(low_table())
+        with self.assertRaises(TypeError):
+            tree.folder("a", plain_table())
+        self.assertEqual(len(tree), 0)
+        with self.assertRaises(TypeError):
+            spellings.spellings(low_table(), "a", 3)
+
+    def test_functions_by_name_in_another_order(self):
+        table = document_table()
+        self.assertEqual(papers.paper(other="A", one="a", table=table), ("one", ["a", "A"]))
+        self.assertIs(papers.holds(thing=("one", ["a", "A"]), other="A", one="a", table=table), True)
+        self.assertEqual(spellings.count(size=1, name="A", table=table), 2)
+        self.assertEqual(spellings.spellings(most=1, name="A", table=table), ["A", "a"])
+        self.assertEqual(spellings.shortest(name="a'", table=table), "1")
+        self.assertEqual(spellings.groups(names=["a", "A"], table=table), [["A", "a"]])
+        self.assertEqual(spellings.bar(names=["a", "A"], table=table), ("A", "a"))
+        self.assertIs(relations.is_finer(other=table, one=plain_table()), True)
+        self.assertIs(relations.are_alike(other=table, one=plain_table()), False)
+        self.assertEqual(relations.failing(other=plain_table(), one=low_table())[0], ("A", "a"))
+        self.assertEqual(relations.parting(other=plain_table(), one=table), ("A", "a"))
+        self.assertIs(trees.is_path(thing="a/b"), True)
+
+    def test_methods_of_trees_by_name_in_another_order(self):
+        tree = trees.Tree(table=low_table())
+        tree.folder(table=plain_table(), path="a")
+        tree.file(content=3, path="a/b")
+        tree.file(path="a/c")
+        tree.link(target="a/b", path="l")
+        tree.write(content=4, path="l")
+        tree.move(other="a/D", path="a/c")
+        tree.change(table=document_table(), path="a")
+        self.assertEqual(tree.kind(path="L"), "link")
+        self.assertEqual(tree.real_path(path="A/b"), "a/b")
+        self.assertEqual(tree.target(path="l"), "a/b")
+        self.assertEqual(tree.read(path="l"), 4)
+        self.assertEqual(tree.end(path="l"), "a/b")
+        self.assertEqual(tree.table_of(path="a"), document_table())
+        self.assertEqual(tree.names(path="a"), ["D", "b"])
+        tree.batch(deeds=[("remove", "l")])
+        tree.remove(path="a/b")
+        self.assertEqual(tree.lay(archive=[("A/E", 1)]), ["a/E"])
+        self.assertIs(tree.same(other=tree.copy()), True)
 
     def test_each_error_stands_in_its_file(self):
         for name, thing in vars(errors).items():
