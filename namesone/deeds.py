@@ -10,7 +10,7 @@ def is_done(tree, thing):
     if not _is_formed(thing):
         return False
     try:
-        _do(tree, thing)
+        do_deed(tree, thing)
     except (NoPath, NoNumber, Missing, Present, NoFile, Inside):
         return False
     return True
@@ -23,7 +23,8 @@ def _is_formed(thing):
     return len(thing) == SIZES.get(thing[0])
 
 
-def _do(tree, deed):
+def do_deed(tree, deed):
+    """Does a deed by the method of the tree with its name."""
     word = deed[0]
     if word == "folder":
         tree.folder(deed[1])

@@ -80,6 +80,12 @@ def names_by_key(folder):
     return [folder.inside[key].name for key in sorted(folder.inside)]
 
 
+def first_behind(folder, last):
+    """The least key in a folder that is greater than a key, or the least of all for None, and its entry; or None."""
+    key = min([key for key in folder.inside if last is None or key > last], default=None)
+    return None if key is None else (key, folder.inside[key])
+
+
 def copy_of(entry):
     """A copy of an entry with all that is in it."""
     if isinstance(entry, File):
@@ -89,3 +95,18 @@ def copy_of(entry):
     folder = Folder(entry.name, entry.table)
     folder.inside = {key: copy_of(entry.inside[key]) for key in entry.inside}
     return folder
+
+
+def are_same(one, other):
+    """Whether two entries, with all that is in them, have the same names, contents, targets and tables."""
+    if one.name != other.name or kind_of(one) != kind_of(other) or worth_of(one) != worth_of(other):
+        return False
+    if not isinstance(one, Folder):
+        return True
+    # Names that are the same have the same key in both, so the keys tell which entries are compared.
+    if one.table != other.table or len(one.inside) != len(other.inside):
+        return False
+    for key in one.inside:
+        if key not in other.inside or not are_same(one.inside[key], other.inside[key]):
+            return False
+    return True

@@ -2,7 +2,8 @@
 
 from namesone.deeds import is_done
 from namesone.entries import (
-    File, Folder, Link, copy_of, entry_in, give_table, kind_of, names_by_key, names_by_name, put_in, take_out, worth_of)
+    File, Folder, Link, are_same, copy_of, entry_in, first_behind, give_table, kind_of, names_by_key, names_by_name,
+    put_in, take_out, worth_of)
 from namesone.errors import (
     Barred, Clash, Inside, Missing, NoDeed, NoFile, NoLink, NoNumber, NoPath, NoTable, Present)
 from namesone.layouts import lay_item
@@ -39,13 +40,6 @@ def _check_number(thing):
 def _check_table(thing):
     if not isinstance(thing, Table):
         raise NoTable(thing)
-
-
-def _fact(trail):
-    """All that trees are compared by, for the last entry of a trail."""
-    entry = trail[-1]
-    table = entry.table if isinstance(entry, Folder) else None
-    return (path_along(trail), kind_of(entry), worth_of(entry), table)
 
 
 class Tree:
@@ -180,6 +174,11 @@ class Tree:
         _check_path_or_root(path)
         return names_by_key(self._folder_at(path))
 
+    def next_name(self, last, path):
+        """The next key in a folder, or the root for None, behind a key or None, and the name that has it; or None."""
+        found = first_behind(self._folder_at(path), last)
+        return None if found is None else (found[0], found[1].name)
+
     def copy(self):
         """Another tree that is the same."""
         tree = Tree(self._root.table)
@@ -188,7 +187,7 @@ class Tree:
 
     def same(self, other):
         """Whether another tree has the same entries and tables."""
-        return isinstance(other, Tree) and self._facts() == other._facts()
+        return isinstance(other, Tree) and are_same(self._root, other._root)
 
     def __len__(self):
         return len(trails_below([self._root]))
@@ -198,9 +197,6 @@ class Tree:
 
     def __repr__(self):
         return f"Tree({len(self)} entries)"
-
-    def _facts(self):
-        return [_fact(trail) for trail in [[self._root], *trails_below([self._root])]]
 
     def _trail_to(self, path):
         trail = find(self._root, path)

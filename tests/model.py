@@ -63,7 +63,8 @@ class Model:
         at = (*holder, path.split("/")[-1])
         self.kinds[at] = kind
         if kind == "folder":
-            self.tables[at] = table or self.tables[holder]
+            # Not `or`: a table without folds and marks has no length.
+            self.tables[at] = self.tables[holder] if table is None else table
         else:
             self.worths[at] = worth
 

@@ -3,7 +3,8 @@
 import inspect
 import unittest
 
-from namesone import errors, exchanges, papers, relations, spellings, tables, trees
+from namesone import (
+    archives, desk, errors, exchanges, listings, papers, races, relations, spellings, tables, trees)
 from tests.values import document_table, low_table, plain_table
 
 FUNCTIONS = {
@@ -17,6 +18,10 @@ FUNCTIONS = {
         "is_finer": ["one", "other"], "are_alike": ["one", "other"], "failing": ["one", "other"],
         "parting": ["one", "other"]},
     trees: {"is_path": ["thing"]},
+    archives: {"parting_items": ["tree", "archive"]},
+    races: {
+        "orders": ["one", "other"], "race": ["tree", "one", "other", "order"],
+        "least_apart": ["tree", "one", "other"]},
 }
 TREE_METHODS = {
     "folder": ["path", "table"], "file": ["path", "content"], "link": ["path", "target"], "write": ["path", "content"],
@@ -68,6 +73,33 @@ class InterfaceTest(unittest.TestCase):
         for name in ("__init__", "__len__", "__contains__", "__repr__"):
             self.assertIn(name, own)
 
+    def test_listing_and_desk_stand_in_their_files(self):
+        self.assertEqual(listings.Listing.__module__, "namesone.listings")
+        self.assertEqual(list(inspect.signature(listings.Listing).parameters), ["tree", "path"])
+        self.assertEqual(desk.Desk.__module__, "namesone.desk")
+        self.assertEqual(list(inspect.signature(desk.Desk).parameters), [])
+
+    def test_methods_of_listings_and_desks_stand_in_the_class_itself(self):
+        for owner, methods in (
+                (listings.Listing, {"give": [], "rest": []}), (desk.Desk, {"say": ["command"], "tree": []})):
+            for name, parameters in methods.items():
+                self.assertEqual(list(inspect.signature(vars(owner)[name]).parameters), ["self", *parameters], name)
+            self.assertIn("__init__", vars(owner))
+        self.assertIsInstance(vars(listings.Listing)["last"], property)
+        self.assertIsInstance(vars(listings.Listing)["behind"], classmethod)
+        self.assertEqual(list(inspect.signature(listings.Listing.behind).parameters), ["tree", "key", "path"])
+
+    def test_what_yields(self):
+        for function in (races.orders, vars(listings.Listing)["rest"], vars(trees.Tree)["walk"]):
+            self.assertTrue(inspect.isgeneratorfunction(function))
+
+    def test_defaults(self):
+        for function, name, default in (
+                (spellings.spellings, "most", 40), (trees.Tree.folder, "table", None), (trees.Tree.file, "content", 0),
+                (trees.Tree.table_of, "path", None), (trees.Tree.names, "path", None),
+                (listings.Listing, "path", None), (listings.Listing.behind, "path", None)):
+            self.assertEqual(inspect.signature(function).parameters[name].default, default)
+
     def test_what_is_passed_by_name_only(self):
         tree = trees.Tree(low_table())
         with self.assertRaises(TypeError):
@@ -111,6 +143,26 @@ class InterfaceTest(unittest.TestCase):
         tree.remove(path="a/b")
         self.assertEqual(tree.lay(archive=[("A/E", 1)]), ["a/E"])
         self.assertIs(tree.same(other=tree.copy()), True)
+
+    def test_archives_races_listings_and_the_desk_by_position_and_by_name(self):
+        tree = trees.Tree(low_table())
+        tree.file("a")
+        archive, one, other = [("x", 1), ("X", 1)], [("remove", "a")], [("write", "A", 5)]
+        self.assertEqual(archives.parting_items(tree, archive), (0, 1))
+        self.assertEqual(archives.parting_items(archive=archive, tree=tree), (0, 1))
+        self.assertEqual(list(races.orders(one, other)), ["01", "10"])
+        self.assertEqual(list(races.orders(other=[], one=one)), ["0"])
+        self.assertEqual(races.race(tree, one, other, "01")[1:], ([True], [False]))
+        self.assertEqual(races.race(order="10", other=other, one=one, tree=tree)[1:], ([True], [True]))
+        self.assertEqual(races.least_apart(tree, one, other), "10")
+        self.assertEqual(races.least_apart(other=other, tree=tree, one=one), "10")
+        for listing in (
+                listings.Listing(tree), listings.Listing(tree, None), listings.Listing(path=None, tree=tree),
+                listings.Listing.behind(tree, "A"), listings.Listing.behind(tree, "A", None),
+                listings.Listing.behind(path=None, key="A", tree=tree)):
+            self.assertEqual([listing.give(), listing.last], ["a", "a"])
+        self.assertEqual(desk.Desk().say("list"), "-")
+        self.assertEqual(desk.Desk().say(command="list"), "-")
 
     def test_each_error_stands_in_its_file(self):
         for name, thing in vars(errors).items():

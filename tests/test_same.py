@@ -67,6 +67,26 @@ class SameTest(TreeCase):
         for one, other in itertools.combinations(CHANGES, 2):
             self.assertIs(changed(one).same(changed(other)), False)
 
+    def test_as_many_entries_with_other_names(self):
+        trees = []
+        for names in (("a", "b"), ("a", "c"), ("d", "b"), ("A", "b"), ("a", "B")):
+            tree = Tree(low_table())
+            tree.folder(names[0])
+            tree.file(names[0] + "/" + names[1], 1)
+            trees.append(tree)
+        for one, other in itertools.product(trees, repeat=2):
+            self.assertIs(one.same(other), one is other)
+
+    def test_contents_targets_and_folders(self):
+        trees = [Tree(low_table()) for _ in range(5)]
+        trees[0].folder("a")
+        trees[1].file("a")
+        trees[2].file("a", 1)
+        trees[3].link("a", "b")
+        trees[4].link("a", "B")
+        for one, other in itertools.product(trees, repeat=2):
+            self.assertIs(one.same(other), one is other)
+
     def test_tables_of_empty_trees(self):
         self.assertIs(Tree(low_table()).same(Tree(plain_table())), False)
 
