@@ -2,7 +2,6 @@
 
 from namesone.spellers import Speller
 from namesone.spellings import groups
-from namesone.tables import SIGNS
 
 
 def is_finer(one, other):
@@ -35,15 +34,33 @@ def parting(one, other):
     """The least pair of words that are one for a table and not for another table, or None."""
     if is_finer(one, other):
         return None
-    # A failing exchange has at most four signs on both sides, so the least pair has no more.
-    signs = sorted(SIGNS)
+    # A failing exchange has at most four signs on both sides, so the least pair has no more. Its signs are among those
+    # of the first table: at another one both words could be cut, and one of the pieces would be a lesser pair.
+    signs = _signs_of(one)
     pair = _parting_of_one_size(one, other, signs)
+    if pair is not None:
+        return pair
+    # Signs that are one for the first table are now one for the other, too: the first of them stands for the rest.
+    firsts = [alike[0] for alike in groups(one, signs)]
+    speller = Speller(one, firsts)
     for size in (2, 3):
-        if pair is None:
-            pair = _parting_from_sign(one, other, size)
-    if pair is None:
-        pair = _parting_of_one_size(one, other, [a + b for a in signs for b in signs])
-    return pair
+        pair = _parting_from_sign(one, other, speller, firsts, size)
+        if pair is not None:
+            return pair
+    # No fold fails now. A sign without marks could be cut off, and what is left would be a lesser pair.
+    marked = [sign for sign in firsts if _has_marks(one, sign)]
+    return _parting_of_one_size(one, other, [a + b for a in marked for b in marked])
+
+
+def _signs_of(table):
+    """All signs that stand in a table, ascending."""
+    folds = table.folds
+    return sorted(set("".join(list(folds) + list(folds.values()) + list(table.marks))))
+
+
+def _has_marks(table, word):
+    marks = table.marks
+    return any([sign in marks for sign in table(word)])
 
 
 def _parting_of_one_size(one, other, words):
@@ -55,10 +72,9 @@ def _parting_of_one_size(one, other, words):
     return None
 
 
-def _parting_from_sign(one, other, size):
+def _parting_from_sign(one, other, speller, signs, size):
     """The least parting pair of a sign and a word of so many signs, more than one."""
-    speller = Speller(one)
-    for sign in sorted(SIGNS):
+    for sign in signs:
         for word in speller.spelled(one(sign), size):
             if other(sign) != other(word):
                 return (sign, word)

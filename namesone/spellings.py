@@ -2,14 +2,14 @@
 
 from namesone.errors import TooMany
 from namesone.spellers import Speller
-from namesone.tables import LONGEST_WORD, in_order
+from namesone.tables import LONGEST_WORD, SIGNS, in_order
 
 MOST_SPELLINGS = 500
 
 
 def count(table, name, size):
     """How many spellings of a name have exactly so many signs."""
-    numbers = _numbers(Speller(table), table(name))
+    numbers = _numbers(Speller(table, SIGNS), table(name))
     if size < len(numbers):
         return numbers[size]
     return 0
@@ -17,7 +17,7 @@ def count(table, name, size):
 
 def spellings(table, name, *, most=LONGEST_WORD):
     """The spellings of a name of at most so many signs, in the order of [4]."""
-    speller = Speller(table)
+    speller = Speller(table, SIGNS)
     key = table(name)
     numbers = _numbers(speller, key)[:most + 1]
     if sum(numbers) > MOST_SPELLINGS:
@@ -28,7 +28,7 @@ def spellings(table, name, *, most=LONGEST_WORD):
 
 def shortest(table, name):
     """The first spelling of a name in the order of [4]."""
-    speller = Speller(table)
+    speller = Speller(table, SIGNS)
     key = table(name)
     sizes = [size for size, number in enumerate(_numbers(speller, key)) if number > 0]
     return speller.least(key, sizes[0])

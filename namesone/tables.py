@@ -83,6 +83,8 @@ def _with_folds(folds, text):
 
 
 def _with_marks_in_order(marks, text):
+    if not any([sign in marks for sign in text]):
+        return text
     done = ""
     run = ""
     for sign in text:
@@ -102,7 +104,7 @@ def _run_in_order(marks, run):
 def key_of(table, word):
     """The key of what is known to be a word."""
     # The operator `in` of a tree needs keys, and an operator calls no object.
-    return _with_marks_in_order(table.marks, _with_folds(table.folds, word))
+    return _with_marks_in_order(table._marks, _with_folds(table._folds, word))
 
 
 def _items_of(text):

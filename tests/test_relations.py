@@ -132,6 +132,32 @@ class RelationsTest(RelationCase):
             self.check(*tables)
             self.check(tables[0], Table(dict(list(tables[0].folds.items())[1:]), tables[0].marks))
 
+    def test_tables_that_differ_in_their_marks_alone(self):
+        chance = random.Random(11)
+        sizes = set()
+        for _ in range(200):
+            folds = {key: "".join(chance.choices("x':^", k=chance.choice([1, 2, 2, 3]))) for key in "ABC"}
+            marks = [{sign: chance.randint(1, 3) for sign in "':^" if chance.random() < 0.8} for _ in range(2)]
+            pair = self.check(Table(folds, marks[0]), Table(folds, marks[1]))
+            sizes.add(pair and (len(pair[0]), len(pair[1])))
+        self.assertEqual(sizes, {None, (1, 1), (1, 2), (1, 3), (2, 2)})
+
+    def test_tables_that_differ_a_little(self):
+        chance = random.Random(12)
+        for _ in range(200):
+            folds = {key: "".join(chance.choices("ab'", k=chance.choice([1, 1, 2, 3]))) for key in "AB"}
+            one = Table(folds, {"'": chance.randint(1, 2), "a": chance.randint(1, 2)})
+            key = chance.choice("AB")
+            other = Table({**folds, key: "".join(chance.choices("ab'", k=len(folds[key])))}, one.marks)
+            self.check(one, other)
+
+    def test_signs_of_the_second_table_alone(self):
+        # What only the second table tells to be one parts nothing.
+        for text in ("x=y", "x=ab", "x:1 y:2", "a:1 b:2 x:3", "b:1 x:2", "A=x"):
+            pair = self.check(Table.from_text("A=ab"), Table.from_text(text))
+            self.assertEqual(pair, ("A", "ab"))
+            self.assertIsNone(self.check(Table({}, {}), Table.from_text(text)))
+
     def test_finer_means_all_words(self):
         words = words_up_to("aAb':", 3)
         for one, other in itertools.product(TEXTS, TEXTS):
@@ -226,6 +252,36 @@ class LargeTest(unittest.TestCase):
         folds = {sign: "abc"[at % 3] for at, sign in enumerate(SIGNS[10:49])}
         self.assertEqual(parting(Table({**folds, "9": "abc"}, {}), Table(folds, {})), ("9", "CAB"))
         self.assertEqual(parting(Table({**folds, "9": "abc"}, {}), Table({**folds, "9": "abd"}, {})), ("9", "CAB"))
+
+
+class ManySpellingsTest(unittest.TestCase):
+    """Tables for which some words have very many spellings; the least pairs are told by the least of these."""
+
+    FOLDS = {sign: "~" for sign in SIGNS[:38]}
+
+    def test_three_signs(self):
+        one = Table({**self.FOLDS, "8": "~~~"}, {"'": 1, ":": 2})
+        self.assertEqual(parting(one, Table({**self.FOLDS, "8": "~~~"}, {})), ("':", ":'"))
+        self.assertEqual(parting(one, Table(self.FOLDS, one.marks)), ("8", "AAA"))
+        for word, back in (("~~", "AA"), ("~", "A"), ("~~9", "AA9"), ("9~9", "9A9"), ("M", "M")):
+            other = Table({**self.FOLDS, "8": word}, {})
+            self.assertEqual(parting(one, other), ("8", "AAA"))
+            self.assertEqual(parting(other, one), ("8", back))
+
+    def test_two_signs(self):
+        one = Table({**self.FOLDS, "8": "~~", "9": "~~~"}, {})
+        self.assertEqual(parting(one, Table({**self.FOLDS, "8": "~~"}, {})), ("9", "8A"))
+        self.assertEqual(parting(one, Table({**self.FOLDS, "9": "~~~"}, {})), ("8", "AA"))
+        self.assertEqual(parting(one, Table(self.FOLDS, {})), ("8", "AA"))
+
+    def test_two_marks(self):
+        folds = {sign: "':^"[at % 3] for at, sign in enumerate(SIGNS[:39])}
+        one = Table(folds, {"'": 1, ":": 2, "^": 3})
+        # The least sign for ^ is A, because A is before it.
+        self.assertEqual(parting(one, Table(folds, {"'": 1, ":": 2})), ("'A", "A'"))
+        self.assertEqual(parting(one, Table(folds, {"'": 1, ":": 2, "^": 2})), (":A", "A:"))
+        self.assertEqual(parting(one, Table(folds, {"^": 1, ":": 2})), ("':", ":'"))
+        self.assertIsNone(parting(one, Table(folds, {"'": 3, ":": 2, "^": 1})))
 
 
 if __name__ == "__main__":

@@ -2,9 +2,11 @@
 
 import itertools
 import math
+import random
 import unittest
 
 from namesone.errors import TooMany
+from namesone.exchanges import exchanges
 from namesone.spellings import bar, count, groups, shortest, spellings
 from namesone.tables import Table
 from tests.values import SIGNS, document_table, low_table, place, signs_of, words_up_to
@@ -176,6 +178,48 @@ class ManySpellingsTest(unittest.TestCase):
         first.clear()
         self.assertEqual(spellings(table, "A1"), again)
         self.assertEqual(table, document_table())
+
+
+def reached(table, name, most):
+    """All words that single exchanges lead to, in the order of [4], or None if they are more than so many."""
+    found, left = {name}, [name]
+    while left and len(found) <= most:
+        new = [word for word in exchanges(table, left.pop()) if word not in found]
+        found.update(new)
+        left.extend(new)
+    return sorted(found, key=place) if len(found) <= most else None
+
+
+class ExchangesTest(unittest.TestCase):
+    """[3]: each word that is one with a name is among its spellings."""
+
+    def test_all_that_single_exchanges_lead_to(self):
+        many = 0
+        for seed in range(150):
+            chance = random.Random(seed)
+            folds = {key: "".join(chance.choices("ab':^", k=chance.choice([1, 2, 3]))) for key in "AB1"}
+            table = Table(folds, {sign: chance.randint(1, 3) for sign in "':^b" if chance.random() < 0.7})
+            name = "".join(chance.choices("aAbB1':^", k=chance.randint(1, 7)))
+            expected = reached(table, name, 500)
+            if expected is None:
+                with self.assertRaises(TooMany):
+                    spellings(table, name)
+                continue
+            many += len(expected) > 20
+            self.assertEqual(spellings(table, name), expected, (str(table), name))
+            self.assertEqual(shortest(table, name), expected[0])
+            sizes = [len(word) for word in expected]
+            self.assertEqual([count(table, name, size) for size in range(41)], [sizes.count(size) for size in range(41)])
+        self.assertGreater(many, 25)
+
+    def test_long_names(self):
+        found = spellings(Table({"A": "a"}, {}), "aaaaaaaa")
+        self.assertEqual(found, ["".join(word) for word in itertools.product("Aa", repeat=8)])
+        table = Table({"A": "a", "Z": "aa"}, {})
+        found = spellings(table, "a" * 12, most=7)
+        self.assertEqual(found, sorted([word for word in words_up_to("AZa", 7) if table(word) == "a" * 12], key=place))
+        self.assertEqual(len(found), 85)
+        self.assertEqual([count(table, "a" * 12, size) for size in (5, 6, 7, 12)], [0, 1, 84, 4096])
 
 
 class GroupsTest(unittest.TestCase):
